@@ -179,7 +179,7 @@ func TestLongTexts(t *testing.T) {
 	}
 }
 
-// P8.1, P8.3, P8.4, P8.5: texts that say one thing many times, so that the limits are reached in many ways.
+// P8.1, P8.3, P8.4: texts that say one thing many times, so that the limits are reached in many ways.
 func TestManyTimes(t *testing.T) {
 	t.Parallel()
 	all := alphabets()
