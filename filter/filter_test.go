@@ -388,6 +388,21 @@ func TestEnds(t *testing.T) {
 	if got := Filter(p, parted); len(got) != 1<<17 {
 		t.Errorf("often parted: %d", len(got))
 	}
+	// Each of many attributes, by a policy of as many names as may be.
+	for i := range api.MaxRules - len(p.Rules) {
+		r := api.Rule{Name: fmt.Sprintf("e%d", i)}
+		for j := range api.MaxNames {
+			r.Attrs = append(r.Attrs, fmt.Sprintf("a-long-attribute-%d", j))
+		}
+		p.Rules = append(p.Rules, r)
+	}
+	decked := element("e0")
+	for i := range 1000 {
+		decked = with(decked, fmt.Sprintf("a-long-attribute-%d", i), "x")
+	}
+	if got := Filter(p, slices.Repeat(list(decked), 200)); len(got) != 200 || len(got[199].Attrs) != api.MaxNames {
+		t.Errorf("many attributes: %d", len(got))
+	}
 	var steps []api.Node
 	for range 1 << 15 {
 		steps = list(text("x"), element("i", steps...), element("b"), text("y"))
